@@ -1,0 +1,42 @@
+// Package checks finds the first error in the order in which a chapter lists them.
+package checks
+
+import "tideway/api"
+
+// First returns the first of errors that is not OK, or OK.
+func First(errors ...api.Errno) api.Errno {
+	for _, e := range errors {
+		if e != api.OK {
+			return e
+		}
+	}
+	return api.OK
+}
+
+// Each returns the error of the first element with one, or OK.
+func Each[T any](l []T, check func(T) api.Errno) api.Errno {
+	for _, x := range l {
+		if e := check(x); e != api.OK {
+			return e
+		}
+	}
+	return api.OK
+}
+
+// Unless returns OK if a condition holds, and the error if not.
+func Unless(holds bool, e api.Errno) api.Errno {
+	if holds {
+		return api.OK
+	}
+	return e
+}
+
+// Range returns ErrRange if a number is not from low to high.
+func Range(x, low, high int) api.Errno {
+	return Unless(low <= x && x <= high, api.ErrRange)
+}
+
+// Most returns ErrMany if there are more than most elements.
+func Most(n, most int) api.Errno {
+	return Unless(n <= most, api.ErrMany)
+}

@@ -1,0 +1,37 @@
+package checks_test
+
+import (
+	"testing"
+
+	"tideway/api"
+	"tideway/checks"
+)
+
+func same(t *testing.T, what string, got, wanted api.Errno) {
+	t.Helper()
+	if got != wanted {
+		t.Errorf("%s: got %d, want %d", what, got, wanted)
+	}
+}
+
+func TestFirst(t *testing.T) {
+	same(t, "none", checks.First(), api.OK)
+	same(t, "no error", checks.First(api.OK, api.OK), api.OK)
+	same(t, "two errors", checks.First(api.OK, api.ErrMany, api.ErrForm), api.ErrMany)
+}
+
+func TestEach(t *testing.T) {
+	even := func(x int) api.Errno { return checks.Unless(x%2 == 0, api.Errno(x)) }
+	same(t, "none", checks.Each(nil, even), api.OK)
+	same(t, "no error", checks.Each([]int{2, 4}, even), api.OK)
+	same(t, "two errors", checks.Each([]int{2, 5, 3}, even), api.ErrMany)
+}
+
+func TestRangeAndMost(t *testing.T) {
+	for x, e := range map[int]api.Errno{-1: api.ErrRange, 0: api.OK, 3: api.OK, 4: api.ErrRange} {
+		same(t, "Range", checks.Range(x, 0, 3), e)
+	}
+	for n, e := range map[int]api.Errno{0: api.OK, 3: api.OK, 4: api.ErrMany} {
+		same(t, "Most", checks.Most(n, 3), e)
+	}
+}

@@ -1,0 +1,63 @@
+// Package texts reads the lines, the words and the integers of the texts of all chapters.
+package texts
+
+import "strings"
+
+// Lines splits a text behind each line feed. What stands behind the last one is a line, too, if it is not empty.
+// The empty text is one line without a line feed: so each chapter finds its error there.
+func Lines(s string) []string {
+	out := strings.SplitAfter(s, "\n")
+	if last := len(out) - 1; last > 0 && out[last] == "" {
+		out = out[:last]
+	}
+	return out
+}
+
+// Words is what is left of the words of a line.
+type Words struct {
+	left []string
+}
+
+// Read returns the words of a line, which are separated by one blank, and whether it has its line feed.
+func Read(line string) (*Words, bool) {
+	body, ended := strings.CutSuffix(line, "\n")
+	return &Words{left: strings.Split(body, " ")}, ended
+}
+
+// Next takes the next word: the empty one, which is no word of a text, if none is left.
+func (w *Words) Next() string {
+	if w.Done() {
+		return ""
+	}
+	word := w.left[0]
+	w.left = w.left[1:]
+	return word
+}
+
+// Done reports whether no word is left.
+func (w *Words) Done() bool {
+	return len(w.left) == 0
+}
+
+// Integer returns the integer with at most so many digits that a word is, and whether it is one.
+// Only the word that the integer is printed as is one: no leading zeros, no `+`, no `-0`.
+func Integer(word string, digits int) (int, bool) {
+	body, negative := strings.CutPrefix(word, "-")
+	if body == "" || len(body) > digits {
+		return 0, false
+	}
+	if body[0] == '0' && (len(body) > 1 || negative) {
+		return 0, false
+	}
+	n := 0
+	for _, c := range body {
+		if c < '0' || c > '9' {
+			return 0, false
+		}
+		n = 10*n + int(c-'0')
+	}
+	if negative {
+		n = -n
+	}
+	return n, true
+}

@@ -1,0 +1,53 @@
+package texts_test
+
+import (
+	"slices"
+	"testing"
+
+	"tideway/texts"
+)
+
+func TestLines(t *testing.T) {
+	for s, wanted := range map[string][]string{
+		"": {""}, "\n": {"\n"}, "a\n": {"a\n"}, "a": {"a"}, "a\n\n": {"a\n", "\n"}, "a\nb": {"a\n", "b"},
+	} {
+		if got := texts.Lines(s); !slices.Equal(got, wanted) {
+			t.Errorf("Lines of %q: got %q, want %q", s, got, wanted)
+		}
+	}
+}
+
+func TestWords(t *testing.T) {
+	for _, row := range []struct {
+		line  string
+		words []string
+		ended bool
+	}{
+		{"a b\n", []string{"a", "b"}, true}, {"a b", []string{"a", "b"}, false}, {"a  b \n", []string{"a", "", "b", ""}, true}, {"\n", []string{""}, true}, {"", []string{""}, false}, {"a\tb\n", []string{"a\tb"}, true},
+	} {
+		words, ended := texts.Read(row.line)
+		var got []string
+		for !words.Done() {
+			got = append(got, words.Next())
+		}
+		if !slices.Equal(got, row.words) || ended != row.ended || words.Next() != "" {
+			t.Errorf("words of %q: got %q and %v", row.line, got, ended)
+		}
+	}
+}
+
+func TestInteger(t *testing.T) {
+	for _, row := range []struct {
+		word   string
+		digits int
+		n      int
+		ok     bool
+	}{
+		{"0", 9, 0, true}, {"7", 9, 7, true}, {"-7", 9, -7, true}, {"999999999", 9, 999999999, true}, {"-999999999", 9, -999999999, true}, {"100000000000000", 15, 100000000000000, true},
+		{"", 9, 0, false}, {"-", 9, 0, false}, {"-0", 9, 0, false}, {"00", 9, 0, false}, {"07", 9, 0, false}, {"-07", 9, 0, false}, {"+7", 9, 0, false}, {"--7", 9, 0, false}, {"7-", 9, 0, false}, {" 7", 9, 0, false}, {"1000000000", 9, 0, false}, {"-1000000000", 9, 0, false}, {"1e3", 9, 0, false}, {"/", 9, 0, false}, {":", 9, 0, false}, {"٣", 9, 0, false}, {"1\xff", 9, 0, false},
+	} {
+		if n, ok := texts.Integer(row.word, row.digits); n != row.n || ok != row.ok {
+			t.Errorf("Integer of %q: got %d and %v", row.word, n, ok)
+		}
+	}
+}
