@@ -6,6 +6,7 @@ import (
 
 	"tideway/api"
 	"tideway/checks"
+	"tideway/ratios"
 )
 
 // Limits of spans and rules.
@@ -89,16 +90,8 @@ func CheckRatio(x api.Ratio) api.Errno {
 	return checks.First(
 		checks.Range(x.Num, -api.MaxNumber, api.MaxNumber),
 		checks.Range(x.Den, 1, api.MaxNumber),
-		checks.Unless(commonDivisor(x.Num, x.Den) == 1, api.ErrForm),
+		checks.Unless(ratios.CommonDivisor(x.Num, x.Den) == 1, api.ErrForm),
 	)
-}
-
-// commonDivisor returns the greatest common divisor; that of 0 and a number is the number.
-func commonDivisor(a, b int) int {
-	for b != 0 {
-		a, b = b, a%b
-	}
-	return max(a, -a)
 }
 
 // CheckLevel returns the error of a level, or OK.

@@ -1,0 +1,99 @@
+package tide
+
+import (
+	"strconv"
+	"strings"
+
+	"tideway/api"
+	"tideway/texts"
+)
+
+// The first words of lines, and the number of digits that integers may have.
+const (
+	tideLine        = "tide"
+	constituentLine = "constituent"
+	maxDigits       = 15
+)
+
+// Print returns the text of a tide.
+func Print(t Tide) (string, api.Errno) {
+	if e := CheckTide(t); e != api.OK {
+		return "", e
+	}
+	var out strings.Builder
+	out.WriteString(tideLine + numbered(t.Den) + "\n")
+	for i, c := range t.Constituents {
+		a := t.Amplitudes[i]
+		out.WriteString(constituentLine + " " + c.Name + numbered(c.Length, c.Step, a.Re, a.Im) + "\n")
+	}
+	return out.String(), api.OK
+}
+
+// numbered returns integers with a blank before each one.
+func numbered(integers ...int) string {
+	out := ""
+	for _, n := range integers {
+		out += " " + strconv.Itoa(n)
+	}
+	return out
+}
+
+// Parse returns the tide with a text, or the index of the first line that is wrong.
+func Parse(s string) (Tide, int, api.Errno) {
+	if len(s) > api.MaxText {
+		return Tide{}, 0, api.ErrLong
+	}
+	lines := texts.Lines(s)
+	var t Tide
+	kind := lineKind{first: tideLine, read: readDen}
+	for i, line := range lines {
+		if !kind.has(line, &t) {
+			return Tide{}, i, api.ErrSyntax
+		}
+		kind = lineKind{first: constituentLine, read: readConstituent}
+	}
+	if e := CheckTide(t); e != api.OK {
+		return Tide{}, len(lines), e
+	}
+	return t, 0, api.OK
+}
+
+// lineKind is the first word of a line, and what reads the other ones into a tide, and reports whether they have their form.
+type lineKind struct {
+	first string
+	read  func(next func() string, t *Tide) bool
+}
+
+// has reports whether a line is of this kind, which it then adds to a tide.
+func (k lineKind) has(line string, t *Tide) bool {
+	words, ended := texts.Read(line)
+	next := words.Next
+	return ended && next() == k.first && k.read(next, t) && words.Done()
+}
+
+func readDen(next func() string, t *Tide) bool {
+	return readIntegers(next, &t.Den)
+}
+
+func readConstituent(next func() string, t *Tide) bool {
+	c := Constituent{Name: next()}
+	var a api.Gauss
+	if c.Name == "" || !readIntegers(next, &c.Length, &c.Step, &a.Re, &a.Im) {
+		return false
+	}
+	t.Constituents = append(t.Constituents, c)
+	t.Amplitudes = append(t.Amplitudes, a)
+	return true
+}
+
+// readIntegers takes a word for each integer, and reports whether all of them are some.
+func readIntegers(next func() string, integers ...*int) bool {
+	for _, n := range integers {
+		x, ok := texts.Integer(next(), maxDigits)
+		if !ok {
+			return false
+		}
+		*n = x
+	}
+	return true
+}
