@@ -40,3 +40,8 @@ func Range(x, low, high int) api.Errno {
 func Most(n, most int) api.Errno {
 	return Unless(n <= most, api.ErrMany)
 }
+
+// Count returns ErrEmpty if there are no elements, ErrMany if there are more than most.
+func Count(n, most int) api.Errno {
+	return First(Unless(n > 0, api.ErrEmpty), Most(n, most))
+}

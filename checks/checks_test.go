@@ -35,3 +35,9 @@ func TestRangeAndMost(t *testing.T) {
 		same(t, "Most", checks.Most(n, 3), e)
 	}
 }
+
+func TestCount(t *testing.T) {
+	for n, e := range map[int]api.Errno{0: api.ErrEmpty, 1: api.OK, 3: api.OK, 4: api.ErrMany} {
+		same(t, "Count", checks.Count(n, 3), e)
+	}
+}

@@ -5,6 +5,7 @@ import (
 	"strings"
 
 	"tideway/api"
+	"tideway/checks"
 	"tideway/texts"
 )
 
@@ -34,8 +35,8 @@ func Print(r Record) (string, api.Errno) {
 
 // Parse returns the record of a text, and the index of the first line that is wrong.
 func Parse(s string) (Record, int, api.Errno) {
-	if len(s) > api.MaxLog {
-		return Record{}, 0, api.ErrLong
+	if e := checks.First(checks.Unless(len(s) <= api.MaxLog, api.ErrLong), checks.Unless(s != "", api.ErrSyntax)); e != api.OK {
+		return Record{}, 0, e
 	}
 	lines := texts.Lines(s)
 	r, wrong := readRecord(lines)
@@ -72,8 +73,8 @@ func readHeading(line string) (string, int, bool) {
 	next := words.Next
 	first := next()
 	name := next()
-	start, isInteger := texts.Integer(next(), maxDigits)
-	return name, start, ended && first == heading && name != "" && isInteger && start >= 0 && words.Done()
+	start, isStart := texts.Unsigned(next(), maxDigits)
+	return name, start, ended && first == heading && name != "" && isStart && words.Done()
 }
 
 // readLevel returns the level of a line, whether it is recorded, and whether the line has its form.

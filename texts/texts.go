@@ -1,13 +1,15 @@
-// Package texts reads the lines, the words and the integers of the texts of all chapters.
+// Package texts reads and writes the lines, the words and the integers of the texts of all chapters.
 package texts
 
-import "strings"
+import (
+	"strconv"
+	"strings"
+)
 
 // Lines splits a text behind each line feed. What stands behind the last one is a line, too, if it is not empty.
-// The empty text is one line without a line feed: so each chapter finds its error there.
 func Lines(s string) []string {
 	out := strings.SplitAfter(s, "\n")
-	if last := len(out) - 1; last > 0 && out[last] == "" {
+	if last := len(out) - 1; out[last] == "" {
 		out = out[:last]
 	}
 	return out
@@ -60,4 +62,21 @@ func Integer(word string, digits int) (int, bool) {
 		n = -n
 	}
 	return n, true
+}
+
+// Unsigned returns the integer without a sign that a word is, and whether it is one.
+func Unsigned(word string, digits int) (int, bool) {
+	if n, ok := Integer(word, digits); ok && n >= 0 {
+		return n, true
+	}
+	return 0, false
+}
+
+// Numbered returns integers with a blank before each one.
+func Numbered(integers ...int) string {
+	var out strings.Builder
+	for _, n := range integers {
+		out.WriteString(" " + strconv.Itoa(n))
+	}
+	return out.String()
 }

@@ -9,7 +9,7 @@ import (
 
 func TestLines(t *testing.T) {
 	for s, wanted := range map[string][]string{
-		"": {""}, "\n": {"\n"}, "a\n": {"a\n"}, "a": {"a"}, "a\n\n": {"a\n", "\n"}, "a\nb": {"a\n", "b"},
+		"": {}, "\n": {"\n"}, "a\n": {"a\n"}, "a": {"a"}, "a\n\n": {"a\n", "\n"}, "a\nb": {"a\n", "b"},
 	} {
 		if got := texts.Lines(s); !slices.Equal(got, wanted) {
 			t.Errorf("Lines of %q: got %q, want %q", s, got, wanted)
@@ -49,5 +49,31 @@ func TestInteger(t *testing.T) {
 		if n, ok := texts.Integer(row.word, row.digits); n != row.n || ok != row.ok {
 			t.Errorf("Integer of %q: got %d and %v", row.word, n, ok)
 		}
+	}
+	if n, ok := texts.Integer("1000000000000000", 15); n != 0 || ok {
+		t.Errorf("Integer of 16 digits: got %d and %v", n, ok)
+	}
+}
+
+func TestUnsigned(t *testing.T) {
+	for _, row := range []struct {
+		word string
+		n    int
+		ok   bool
+	}{
+		{"0", 0, true}, {"7", 7, true}, {"999999999", 999999999, true}, {"-7", 0, false}, {"-0", 0, false}, {"+7", 0, false}, {"07", 0, false}, {"1000000000", 0, false}, {"", 0, false}, {"x", 0, false},
+	} {
+		if n, ok := texts.Unsigned(row.word, 9); n != row.n || ok != row.ok {
+			t.Errorf("Unsigned of %q: got %d and %v", row.word, n, ok)
+		}
+	}
+}
+
+func TestNumbered(t *testing.T) {
+	if got := texts.Numbered(); got != "" {
+		t.Errorf("Numbered of nothing: got %q", got)
+	}
+	if got := texts.Numbered(5, -16, 0); got != " 5 -16 0" {
+		t.Errorf("Numbered: got %q", got)
 	}
 }

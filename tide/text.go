@@ -1,10 +1,10 @@
 package tide
 
 import (
-	"strconv"
 	"strings"
 
 	"tideway/api"
+	"tideway/checks"
 	"tideway/texts"
 )
 
@@ -21,27 +21,18 @@ func Print(t Tide) (string, api.Errno) {
 		return "", e
 	}
 	var out strings.Builder
-	out.WriteString(tideLine + numbered(t.Den) + "\n")
+	out.WriteString(tideLine + texts.Numbered(t.Den) + "\n")
 	for i, c := range t.Constituents {
 		a := t.Amplitudes[i]
-		out.WriteString(constituentLine + " " + c.Name + numbered(c.Length, c.Step, a.Re, a.Im) + "\n")
+		out.WriteString(constituentLine + " " + c.Name + texts.Numbered(c.Length, c.Step, a.Re, a.Im) + "\n")
 	}
 	return out.String(), api.OK
 }
 
-// numbered returns integers with a blank before each one.
-func numbered(integers ...int) string {
-	out := ""
-	for _, n := range integers {
-		out += " " + strconv.Itoa(n)
-	}
-	return out
-}
-
 // Parse returns the tide with a text, or the index of the first line that is wrong.
 func Parse(s string) (Tide, int, api.Errno) {
-	if len(s) > api.MaxText {
-		return Tide{}, 0, api.ErrLong
+	if e := checks.First(checks.Unless(len(s) <= api.MaxText, api.ErrLong), checks.Unless(s != "", api.ErrSyntax)); e != api.OK {
+		return Tide{}, 0, e
 	}
 	lines := texts.Lines(s)
 	var t Tide

@@ -1,0 +1,74 @@
+package surge
+
+import (
+	"strings"
+
+	"tideway/api"
+	"tideway/checks"
+	"tideway/gauge"
+	"tideway/lists"
+	"tideway/texts"
+)
+
+// The first word of a line, and the number of digits that integers may have.
+const (
+	pieceLine = "piece"
+	maxDigits = 9
+)
+
+// Print returns the text of a store.
+func Print(d Domain, l []Piece) (string, api.Errno) {
+	if e := CheckStore(d, l); e != api.OK {
+		return "", e
+	}
+	var out strings.Builder
+	for _, p := range l {
+		values := lists.Transform(p.Values, sixteenths)
+		out.WriteString(pieceLine + texts.Numbered(p.Run) + " " + p.Member + texts.Numbered(p.Tick, p.Row) + texts.Numbered(values...) + "\n")
+	}
+	return out.String(), api.OK
+}
+
+// Parse returns the store of a text, and the index of the first line that is wrong.
+func Parse(d Domain, s string) ([]Piece, int, api.Errno) {
+	if e := checks.First(CheckDomain(d), checks.Unless(len(s) <= api.MaxLog, api.ErrLong)); e != api.OK {
+		return nil, 0, e
+	}
+	lines := texts.Lines(s)
+	var out []Piece
+	for i, line := range lines {
+		p, ok := readPiece(line)
+		if !ok {
+			return nil, i, api.ErrSyntax
+		}
+		out = append(out, p)
+	}
+	if e := CheckStore(d, out); e != api.OK {
+		return nil, len(lines), e
+	}
+	return out, 0, api.OK
+}
+
+// readPiece returns the piece of a line, and whether it has its form.
+func readPiece(line string) (Piece, bool) {
+	words, ended := texts.Read(line)
+	next := words.Next
+	first := next()
+	run, isRun := texts.Unsigned(next(), maxDigits)
+	member := next()
+	tick, isTick := texts.Unsigned(next(), maxDigits)
+	row, isRow := texts.Unsigned(next(), maxDigits)
+	if !ended || first != pieceLine || !isRun || member == "" || !isTick || !isRow {
+		return Piece{}, false
+	}
+	out := Piece{Run: run, Member: member, Tick: tick, Row: row}
+	for !words.Done() {
+		n, ok := texts.Integer(next(), maxDigits)
+		if !ok {
+			return Piece{}, false
+		}
+		// What is above the greatest level stays above it if it is rounded: CheckLevel finds it.
+		out.Values = append(out.Values, float32(n)/gauge.Unit)
+	}
+	return out, true
+}
