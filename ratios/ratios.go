@@ -1,4 +1,4 @@
-// Package ratios has common divisors, and quotients in lowest terms.
+// Package ratios has common divisors, and quotients, in lowest terms or rounded down.
 package ratios
 
 import "tideway/api"
@@ -18,4 +18,13 @@ func CommonDivisor(integers ...int) int {
 func Lowest(num, den int) api.Ratio {
 	common := CommonDivisor(num, den)
 	return api.Ratio{Num: num / common, Den: den / common}
+}
+
+// Floor returns a quotient, rounded down; its denominator is above 0.
+func Floor(num, den int) int {
+	out := num / den
+	if num%den < 0 {
+		out--
+	}
+	return out
 }

@@ -35,3 +35,13 @@ func TestLowest(t *testing.T) {
 		}
 	}
 }
+
+func TestFloor(t *testing.T) {
+	for _, row := range []struct{ num, den, want int }{
+		{0, 3, 0}, {2, 3, 0}, {3, 3, 1}, {4, 3, 1}, {-1, 3, -1}, {-2, 3, -1}, {-3, 3, -1}, {-4, 3, -2}, {-7, 1, -7}, {1 << 62, 1 << 31, 1 << 31}, {-1 << 62, 3, -(1<<62)/3 - 1},
+	} {
+		if got := ratios.Floor(row.num, row.den); got != row.want {
+			t.Errorf("Floor of %d and %d: got %d, want %d", row.num, row.den, got, row.want)
+		}
+	}
+}

@@ -64,6 +64,18 @@ func Integer(word string, digits int) (int, bool) {
 	return n, true
 }
 
+// Integers takes a word for each integer, and reports whether all of them are integers with at most so many digits.
+func Integers(next func() string, digits int, integers ...*int) bool {
+	for _, n := range integers {
+		x, ok := Integer(next(), digits)
+		if !ok {
+			return false
+		}
+		*n = x
+	}
+	return true
+}
+
 // Unsigned returns the integer without a sign that a word is, and whether it is one.
 func Unsigned(word string, digits int) (int, bool) {
 	if n, ok := Integer(word, digits); ok && n >= 0 {

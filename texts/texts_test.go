@@ -55,6 +55,27 @@ func TestInteger(t *testing.T) {
 	}
 }
 
+func TestIntegers(t *testing.T) {
+	for _, row := range []struct {
+		line string
+		a, b int
+		ok   bool
+		left string
+	}{
+		{"7 -8\n", 7, -8, true, ""}, {"0 99 x\n", 0, 99, true, "x"}, {"7 100 x\n", 7, 0, false, "x"}, {"-0 8 x\n", 0, 0, false, "8"}, {"7\n", 7, 0, false, ""}, {"\n", 0, 0, false, ""},
+	} {
+		words, _ := texts.Read(row.line)
+		var a, b int
+		if ok := texts.Integers(words.Next, 2, &a, &b); ok != row.ok || a != row.a || b != row.b || words.Next() != row.left {
+			t.Errorf("Integers of %q: got %d, %d and %v", row.line, a, b, ok)
+		}
+	}
+	words, _ := texts.Read("7\n")
+	if !texts.Integers(words.Next, 2) || words.Next() != "7" {
+		t.Error("no integers take a word")
+	}
+}
+
 func TestUnsigned(t *testing.T) {
 	for _, row := range []struct {
 		word string

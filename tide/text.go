@@ -63,28 +63,16 @@ func (k lineKind) has(line string, t *Tide) bool {
 }
 
 func readDen(next func() string, t *Tide) bool {
-	return readIntegers(next, &t.Den)
+	return texts.Integers(next, maxDigits, &t.Den)
 }
 
 func readConstituent(next func() string, t *Tide) bool {
 	c := Constituent{Name: next()}
 	var a api.Gauss
-	if c.Name == "" || !readIntegers(next, &c.Length, &c.Step, &a.Re, &a.Im) {
+	if c.Name == "" || !texts.Integers(next, maxDigits, &c.Length, &c.Step, &a.Re, &a.Im) {
 		return false
 	}
 	t.Constituents = append(t.Constituents, c)
 	t.Amplitudes = append(t.Amplitudes, a)
-	return true
-}
-
-// readIntegers takes a word for each integer, and reports whether all of them are some.
-func readIntegers(next func() string, integers ...*int) bool {
-	for _, n := range integers {
-		x, ok := texts.Integer(next(), maxDigits)
-		if !ok {
-			return false
-		}
-		*n = x
-	}
 	return true
 }
