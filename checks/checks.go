@@ -45,3 +45,13 @@ func Most(n, most int) api.Errno {
 func Count(n, most int) api.Errno {
 	return First(Unless(n > 0, api.ErrEmpty), Most(n, most))
 }
+
+// Once returns a check of keys: its error is ErrTwice for a key that it has checked before.
+func Once[K comparable]() func(key K) api.Errno {
+	checked := map[K]bool{}
+	return func(key K) api.Errno {
+		twice := checked[key]
+		checked[key] = true
+		return Unless(!twice, api.ErrTwice)
+	}
+}

@@ -41,3 +41,11 @@ func TestCount(t *testing.T) {
 		same(t, "Count", checks.Count(n, 3), e)
 	}
 }
+
+func TestOnce(t *testing.T) {
+	once, other := checks.Once[string](), checks.Once[string]()
+	for i, key := range []string{"a", "", "b", "a", "", "b", "c", "a"} {
+		same(t, key, once(key), []api.Errno{api.OK, api.OK, api.OK, api.ErrTwice, api.ErrTwice, api.ErrTwice, api.OK, api.ErrTwice}[i])
+	}
+	same(t, "another check", other("a"), api.OK)
+}

@@ -9,3 +9,20 @@ func Transform[T, U any](l []T, f func(T) U) []U {
 	}
 	return out
 }
+
+// Grouped returns the lists of the elements with the same key. The groups, and the elements of each one, stay in order.
+func Grouped[T any, K comparable](l []T, key func(T) K) [][]T {
+	index := map[K]int{}
+	var out [][]T
+	for _, x := range l {
+		k := key(x)
+		i, ok := index[k]
+		if !ok {
+			i = len(out)
+			index[k] = i
+			out = append(out, nil)
+		}
+		out[i] = append(out[i], x)
+	}
+	return out
+}

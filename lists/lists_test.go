@@ -1,6 +1,7 @@
 package lists_test
 
 import (
+	"fmt"
 	"slices"
 	"strconv"
 	"testing"
@@ -13,6 +14,23 @@ func TestTransform(t *testing.T) {
 		t.Errorf("got %v", got)
 	}
 	if got := lists.Transform(nil, strconv.Itoa); len(got) != 0 {
+		t.Errorf("got %v", got)
+	}
+}
+
+func TestGrouped(t *testing.T) {
+	length := func(s string) int { return len(s) }
+	l := []string{"ccc", "a", "bbb", "", "b", "aaa"}
+	out := lists.Grouped(l, length)
+	if got := fmt.Sprintf("%q", out); got != `[["ccc" "bbb" "aaa"] ["a" "b"] [""]]` {
+		t.Errorf("got %s", got)
+	}
+	_ = append(out[1], "x")
+	out[0][0] = "x"
+	if got := fmt.Sprintf("%q %q", out[2], l); got != `[""] ["ccc" "a" "bbb" "" "b" "aaa"]` {
+		t.Errorf("groups share memory: %s", got)
+	}
+	if got := lists.Grouped(nil, length); len(got) != 0 {
 		t.Errorf("got %v", got)
 	}
 }
