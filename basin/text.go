@@ -30,20 +30,7 @@ func Print(b Basin) (string, api.Errno) {
 
 // Parse returns the basin of a text, and the index of the first line that is wrong.
 func Parse(s string) (Basin, int, api.Errno) {
-	if len(s) > api.MaxText {
-		return Basin{}, 0, api.ErrLong
-	}
-	lines := texts.Lines(s)
-	var b Basin
-	for i, line := range lines {
-		if !b.read(line) {
-			return Basin{}, i, api.ErrSyntax
-		}
-	}
-	if e := CheckBasin(b); e != api.OK {
-		return Basin{}, len(lines), e
-	}
-	return b, 0, api.OK
+	return texts.Parse(s, api.MaxText, (*Basin).read, CheckBasin)
 }
 
 // read adds the node or the link of a line, and reports whether the line has its form.

@@ -26,3 +26,16 @@ func Grouped[T any, K comparable](l []T, key func(T) K) [][]T {
 	}
 	return out
 }
+
+// Distinct returns the elements of a list, each one once, in the order of their first places.
+func Distinct[T comparable](l []T) []T {
+	known := map[T]bool{}
+	var out []T
+	for _, x := range l {
+		if !known[x] {
+			known[x] = true
+			out = append(out, x)
+		}
+	}
+	return out
+}

@@ -34,3 +34,19 @@ func TestGrouped(t *testing.T) {
 		t.Errorf("got %v", got)
 	}
 }
+
+func TestDistinct(t *testing.T) {
+	for _, row := range []struct{ l, want []string }{
+		{nil, nil}, {[]string{"b"}, []string{"b"}}, {[]string{"b", "a", "b", "", "a", "c", ""}, []string{"b", "a", "", "c"}}, {[]string{"a", "a", "a"}, []string{"a"}},
+	} {
+		before := slices.Clone(row.l)
+		out := lists.Distinct(row.l)
+		if !slices.Equal(out, row.want) {
+			t.Errorf("Distinct of %q: got %q", row.l, out)
+		}
+		_ = append(out, "x")
+		if !slices.Equal(row.l, before) {
+			t.Errorf("Distinct changes %q to %q", before, row.l)
+		}
+	}
+}

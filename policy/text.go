@@ -51,26 +51,11 @@ func Print(p Policy) (string, api.Errno) {
 
 // Parse returns the policy of a text, and the index of the first line that is wrong.
 func Parse(s string) (Policy, int, api.Errno) {
-	if len(s) > api.MaxText {
-		return Policy{}, 0, api.ErrLong
-	}
-	lines := texts.Lines(s)
-	var p Policy
-	for i, line := range lines {
-		r, ok := readRule(line)
-		if !ok {
-			return Policy{}, i, api.ErrSyntax
-		}
-		p.Rules = append(p.Rules, r)
-	}
-	if e := checkText(p); e != api.OK {
-		return Policy{}, len(lines), e
-	}
-	return p, 0, api.OK
+	return texts.Parse(s, api.MaxText, (*Policy).read, checkText)
 }
 
-// readRule returns the rule of a line, and whether it has its form: all its words but the last one are digits.
-func readRule(line string) (Rule, bool) {
+// read adds the rule of a line, and reports whether the line has its form: all its words but the last one are digits.
+func (p *Policy) read(line string) bool {
 	words, ended := texts.Read(line)
 	next := words.Next
 	var out Rule
@@ -78,12 +63,13 @@ func readRule(line string) (Rule, bool) {
 	for !words.Done() {
 		class, ok := texts.Unsigned(word, 1)
 		if !ok {
-			return Rule{}, false
+			return false
 		}
 		out.Classes = append(out.Classes, class)
 		word = next()
 	}
 	action := slices.Index(actions[:], word)
 	out.Close = action == closeAction
-	return out, ended && action >= 0
+	p.Rules = append(p.Rules, out)
+	return ended && action >= 0
 }

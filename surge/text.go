@@ -4,7 +4,6 @@ import (
 	"strings"
 
 	"tideway/api"
-	"tideway/checks"
 	"tideway/gauge"
 	"tideway/lists"
 	"tideway/texts"
@@ -31,22 +30,17 @@ func Print(d Domain, l []Piece) (string, api.Errno) {
 
 // Parse returns the store of a text, and the index of the first line that is wrong.
 func Parse(d Domain, s string) ([]Piece, int, api.Errno) {
-	if e := checks.First(CheckDomain(d), checks.Unless(len(s) <= api.MaxLog, api.ErrLong)); e != api.OK {
+	if e := CheckDomain(d); e != api.OK {
 		return nil, 0, e
 	}
-	lines := texts.Lines(s)
-	var out []Piece
-	for i, line := range lines {
-		p, ok := readPiece(line)
-		if !ok {
-			return nil, i, api.ErrSyntax
-		}
-		out = append(out, p)
-	}
-	if e := CheckStore(d, out); e != api.OK {
-		return nil, len(lines), e
-	}
-	return out, 0, api.OK
+	return texts.Parse(s, api.MaxLog, readLine, func(l []Piece) api.Errno { return CheckStore(d, l) })
+}
+
+// readLine adds the piece of a line, and reports whether the line has its form.
+func readLine(l *[]Piece, line string) bool {
+	p, ok := readPiece(line)
+	*l = append(*l, p)
+	return ok
 }
 
 // readPiece returns the piece of a line, and whether it has its form.

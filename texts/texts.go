@@ -4,6 +4,8 @@ package texts
 import (
 	"strconv"
 	"strings"
+
+	"tideway/api"
 )
 
 // Lines splits a text behind each line feed. What stands behind the last one is a line, too, if it is not empty.
@@ -91,4 +93,23 @@ func Numbered(integers ...int) string {
 		out.WriteString(" " + strconv.Itoa(n))
 	}
 	return out.String()
+}
+
+// Parse reads a text of at most so many bytes line by line into a value, which it then checks.
+// Beside an error it returns the index of the line that read refuses (with ErrSyntax), or the number of lines if check refuses the value.
+func Parse[T any](s string, most int, read func(value *T, line string) bool, check func(value T) api.Errno) (T, int, api.Errno) {
+	var out, zero T
+	if len(s) > most {
+		return zero, 0, api.ErrLong
+	}
+	lines := Lines(s)
+	for i, line := range lines {
+		if !read(&out, line) {
+			return zero, i, api.ErrSyntax
+		}
+	}
+	if e := check(out); e != api.OK {
+		return zero, len(lines), e
+	}
+	return out, 0, api.OK
 }

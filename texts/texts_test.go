@@ -2,8 +2,10 @@ package texts_test
 
 import (
 	"slices"
+	"strings"
 	"testing"
 
+	"tideway/api"
 	"tideway/texts"
 )
 
@@ -96,5 +98,32 @@ func TestNumbered(t *testing.T) {
 	}
 	if got := texts.Numbered(5, -16, 0); got != " 5 -16 0" {
 		t.Errorf("Numbered: got %q", got)
+	}
+}
+
+func TestParse(t *testing.T) {
+	read := func(l *[]string, line string) bool {
+		*l = append(*l, line)
+		return line != "x\n"
+	}
+	check := func(l []string) api.Errno {
+		if len(l) > 2 {
+			return api.ErrMany
+		}
+		return api.OK
+	}
+	for _, row := range []struct {
+		s    string
+		want string
+		i    int
+		e    api.Errno
+	}{
+		{"", "", 0, api.OK}, {"a\nb\n", "a\n|b\n", 0, api.OK}, {"ab\nc", "ab\n|c", 0, api.OK}, {"aaaaaaaa", "aaaaaaaa", 0, api.OK},
+		{"aaaaaaaaa", "", 0, api.ErrLong}, {"x\nx\nx\nx\nx", "", 0, api.ErrLong}, {"x\n", "", 0, api.ErrSyntax}, {"a\n\nx\n\n", "", 2, api.ErrSyntax}, {"a\nx\nx\n", "", 1, api.ErrSyntax}, {"a\nb\nc\nd", "", 4, api.ErrMany}, {"\n\n\n", "", 3, api.ErrMany},
+	} {
+		l, i, e := texts.Parse(row.s, 8, read, check)
+		if strings.Join(l, "|") != row.want || i != row.i || e != row.e || e != api.OK && l != nil {
+			t.Errorf("Parse of %q: got %q, %d and %d", row.s, l, i, e)
+		}
 	}
 }

@@ -4,7 +4,6 @@ import (
 	"strings"
 
 	"tideway/api"
-	"tideway/checks"
 	"tideway/texts"
 )
 
@@ -31,22 +30,16 @@ func Print(t Tide) (string, api.Errno) {
 
 // Parse returns the tide with a text, or the index of the first line that is wrong.
 func Parse(s string) (Tide, int, api.Errno) {
-	if e := checks.First(checks.Unless(len(s) <= api.MaxText, api.ErrLong), checks.Unless(s != "", api.ErrSyntax)); e != api.OK {
-		return Tide{}, 0, e
+	if s == "" {
+		return Tide{}, 0, api.ErrSyntax
 	}
-	lines := texts.Lines(s)
-	var t Tide
 	kind := lineKind{first: tideLine, read: readDen}
-	for i, line := range lines {
-		if !kind.has(line, &t) {
-			return Tide{}, i, api.ErrSyntax
-		}
+	read := func(t *Tide, line string) bool {
+		expected := kind
 		kind = lineKind{first: constituentLine, read: readConstituent}
+		return expected.has(line, t)
 	}
-	if e := CheckTide(t); e != api.OK {
-		return Tide{}, len(lines), e
-	}
-	return t, 0, api.OK
+	return texts.Parse(s, api.MaxText, read, CheckTide)
 }
 
 // lineKind is the first word of a line, and what reads the other ones into a tide, and reports whether they have their form.
