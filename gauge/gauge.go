@@ -7,6 +7,7 @@ import (
 	"tideway/api"
 	"tideway/checks"
 	"tideway/ratios"
+	"tideway/texts"
 )
 
 // Limits of spans and rules.
@@ -47,23 +48,7 @@ type Statistics struct {
 
 // IsName reports whether a string is a name.
 func IsName(s string) bool {
-	if s == "" || len(s) > api.MaxName {
-		return false
-	}
-	for i, c := range s {
-		if !isLetter(c) && (i == 0 || !isDigit(c) && c != '_') {
-			return false
-		}
-	}
-	return true
-}
-
-func isLetter(c rune) bool {
-	return 'a' <= c && c <= 'z' || 'A' <= c && c <= 'Z'
-}
-
-func isDigit(c rune) bool {
-	return '0' <= c && c <= '9'
+	return texts.IsName(s)
 }
 
 // Draw returns the permutation of n elements by a key.

@@ -55,14 +55,8 @@ func readPiece(line string) (Piece, bool) {
 	if !ended || first != pieceLine || !isRun || member == "" || !isTick || !isRow {
 		return Piece{}, false
 	}
-	out := Piece{Run: run, Member: member, Tick: tick, Row: row}
-	for !words.Done() {
-		n, ok := texts.Integer(next(), maxDigits)
-		if !ok {
-			return Piece{}, false
-		}
-		// What is above the greatest level stays above it if it is rounded: CheckLevel finds it.
-		out.Values = append(out.Values, float32(n)/gauge.Unit)
-	}
-	return out, true
+	values, ok := texts.Left(words, maxDigits, texts.Integer)
+	// What is above the greatest level stays above it if it is rounded: CheckLevel finds it.
+	level := func(n int) float32 { return float32(n) / gauge.Unit }
+	return Piece{Run: run, Member: member, Tick: tick, Row: row, Values: lists.Transform(values, level)}, ok
 }

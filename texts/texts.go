@@ -1,4 +1,4 @@
-// Package texts reads and writes the lines, the words and the integers of the texts of all chapters.
+// Package texts reads and writes the names, the lines, the words and the integers of the texts of all chapters.
 package texts
 
 import (
@@ -7,6 +7,27 @@ import (
 
 	"tideway/api"
 )
+
+// IsName reports whether a string is a name: letters, digits and `_`, the first one a letter.
+func IsName(s string) bool {
+	if s == "" || len(s) > api.MaxName {
+		return false
+	}
+	for i, c := range s {
+		if !isLetter(c) && (i == 0 || !isDigit(c) && c != '_') {
+			return false
+		}
+	}
+	return true
+}
+
+func isLetter(c rune) bool {
+	return 'a' <= c && c <= 'z' || 'A' <= c && c <= 'Z'
+}
+
+func isDigit(c rune) bool {
+	return '0' <= c && c <= '9'
+}
 
 // Lines splits a text behind each line feed. What stands behind the last one is a line, too, if it is not empty.
 func Lines(s string) []string {
@@ -55,7 +76,7 @@ func Integer(word string, digits int) (int, bool) {
 	}
 	n := 0
 	for _, c := range body {
-		if c < '0' || c > '9' {
+		if !isDigit(c) {
 			return 0, false
 		}
 		n = 10*n + int(c-'0')
@@ -76,6 +97,19 @@ func Integers(next func() string, digits int, integers ...*int) bool {
 		*n = x
 	}
 	return true
+}
+
+// Left takes the words that are left of a line, each of which read makes an integer with at most so many digits, and reports whether all of them are such.
+func Left(w *Words, digits int, read func(word string, digits int) (int, bool)) ([]int, bool) {
+	var out []int
+	for !w.Done() {
+		n, ok := read(w.Next(), digits)
+		if !ok {
+			return nil, false
+		}
+		out = append(out, n)
+	}
+	return out, true
 }
 
 // Unsigned returns the integer without a sign that a word is, and whether it is one.

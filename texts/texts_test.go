@@ -9,6 +9,19 @@ import (
 	"tideway/texts"
 )
 
+func TestIsName(t *testing.T) {
+	for _, s := range []string{"a", "Z", "a_", "A9", "zAz09_", strings.Repeat("x", 24)} {
+		if !texts.IsName(s) {
+			t.Errorf("%q is no name", s)
+		}
+	}
+	for _, s := range []string{"", "9", "_", "_a", "a b", "a-", "é", "aé", "a\xff", "a\n", "@", "[", "`", "{", "a/", "a:", strings.Repeat("x", 25)} {
+		if texts.IsName(s) {
+			t.Errorf("%q is a name", s)
+		}
+	}
+}
+
 func TestLines(t *testing.T) {
 	for s, wanted := range map[string][]string{
 		"": {}, "\n": {"\n"}, "a\n": {"a\n"}, "a": {"a"}, "a\n\n": {"a\n", "\n"}, "a\nb": {"a\n", "b"},
@@ -75,6 +88,25 @@ func TestIntegers(t *testing.T) {
 	words, _ := texts.Read("7\n")
 	if !texts.Integers(words.Next, 2) || words.Next() != "7" {
 		t.Error("no integers take a word")
+	}
+}
+
+func TestLeft(t *testing.T) {
+	for _, row := range []struct {
+		line string
+		read func(word string, digits int) (int, bool)
+		want []int
+		ok   bool
+	}{
+		{"x", texts.Integer, nil, true}, {"x 7 -8 0\n", texts.Integer, []int{7, -8, 0}, true}, {"x 99\n", texts.Unsigned, []int{99}, true}, {"x 7 8", texts.Unsigned, []int{7, 8}, true},
+		{"x 7 -8\n", texts.Unsigned, nil, false}, {"x 7 100 8\n", texts.Integer, nil, false}, {"x y 7\n", texts.Integer, nil, false}, {"x \n", texts.Integer, nil, false}, {"x 7 \n", texts.Integer, nil, false}, {"x 7  8\n", texts.Integer, nil, false},
+	} {
+		words, _ := texts.Read(row.line)
+		words.Next()
+		l, ok := texts.Left(words, 2, row.read)
+		if !slices.Equal(l, row.want) || ok != row.ok || ok && !words.Done() {
+			t.Errorf("Left of %q: got %v and %v", row.line, l, ok)
+		}
 	}
 }
 
