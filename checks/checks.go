@@ -46,6 +46,11 @@ func Count(n, most int) api.Errno {
 	return First(Unless(n > 0, api.ErrEmpty), Most(n, most))
 }
 
+// Index returns ErrUnknown if a number is not the index of one of n elements.
+func Index(number, n int) api.Errno {
+	return Unless(0 <= number && number < n, api.ErrUnknown)
+}
+
 // Once returns a check of keys: its error is ErrTwice for a key that it has checked before.
 func Once[K comparable]() func(key K) api.Errno {
 	checked := map[K]bool{}
@@ -53,5 +58,15 @@ func Once[K comparable]() func(key K) api.Errno {
 		twice := checked[key]
 		checked[key] = true
 		return Unless(!twice, api.ErrTwice)
+	}
+}
+
+// Ascending returns a check of numbers: its error is ErrOrder for one that is not above the one that it has checked last.
+func Ascending() func(number int) api.Errno {
+	last, first := 0, true
+	return func(number int) api.Errno {
+		above := first || number > last
+		last, first = number, false
+		return Unless(above, api.ErrOrder)
 	}
 }

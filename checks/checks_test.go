@@ -1,6 +1,7 @@
 package checks_test
 
 import (
+	"math"
 	"testing"
 
 	"tideway/api"
@@ -40,6 +41,21 @@ func TestCount(t *testing.T) {
 	for n, e := range map[int]api.Errno{0: api.ErrEmpty, 1: api.OK, 3: api.OK, 4: api.ErrMany} {
 		same(t, "Count", checks.Count(n, 3), e)
 	}
+}
+
+func TestIndex(t *testing.T) {
+	for number, e := range map[int]api.Errno{math.MinInt: api.ErrUnknown, -1: api.ErrUnknown, 0: api.OK, 2: api.OK, 3: api.ErrUnknown, math.MaxInt: api.ErrUnknown} {
+		same(t, "Index", checks.Index(number, 3), e)
+	}
+	same(t, "Index of nothing", checks.Index(0, 0), api.ErrUnknown)
+}
+
+func TestAscending(t *testing.T) {
+	ascends, other := checks.Ascending(), checks.Ascending()
+	for i, number := range []int{math.MinInt, math.MinInt, -1, 0, 0, 5, 4, 5, math.MaxInt} {
+		same(t, "Ascending", ascends(number), []api.Errno{api.OK, api.ErrOrder, api.OK, api.OK, api.ErrOrder, api.OK, api.ErrOrder, api.OK, api.OK}[i])
+	}
+	same(t, "another check", other(-7), api.OK)
 }
 
 func TestOnce(t *testing.T) {

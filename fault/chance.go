@@ -6,6 +6,7 @@ import (
 	"tideway/api"
 	"tideway/checks"
 	"tideway/ratios"
+	"tideway/sets"
 )
 
 // chances is the chances of the events of a tree by their numbers: 0 for events that it does not have.
@@ -23,10 +24,10 @@ func (c chances) with(chance int, events ...int) chances {
 }
 
 // exactly returns the weight with which the events of a set occur, and no others.
-func (c chances) exactly(s set) int {
+func (c chances) exactly(s sets.Set) int {
 	out := 1
 	for event, chance := range c {
-		if !s.has(event) {
+		if !s.Has(event) {
 			chance = MaxChance - chance
 		}
 		out *= chance
@@ -35,10 +36,10 @@ func (c chances) exactly(s set) int {
 }
 
 // atLeast returns the weight with which the events of a set occur, whatever others do.
-func (c chances) atLeast(s set) int {
+func (c chances) atLeast(s sets.Set) int {
 	out := 1
 	for event, chance := range c {
-		if !s.has(event) {
+		if !s.Has(event) {
 			chance = MaxChance
 		}
 		out *= chance
@@ -70,7 +71,7 @@ func Given(t Tree, occur, not []int) (api.Ratio, api.Errno) {
 	if e := checks.First(CheckTree(t), t.checkSet(occur), t.checkSet(not)); e != api.OK {
 		return api.Ratio{}, e
 	}
-	if setOf(occur)&setOf(not) != 0 {
+	if sets.Of(occur)&sets.Of(not) != 0 {
 		return api.Ratio{}, api.ErrConflict
 	}
 	n := t.nodes()
@@ -96,7 +97,7 @@ func Critical(t Tree, event int) (int, api.Errno) {
 	out := 0
 	for s := range n.those(n.isCut) {
 		// A cut set without the event stays one without it: so it is not counted.
-		if !n.isCut(s &^ only(event)) {
+		if !n.isCut(s &^ sets.Only(event)) {
 			out++
 		}
 	}

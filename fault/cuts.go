@@ -6,15 +6,16 @@ import (
 	"tideway/api"
 	"tideway/checks"
 	"tideway/lists"
+	"tideway/sets"
 )
 
 // cuts returns the minimal cut sets, in order.
-func (n nodes) cuts() []set {
+func (n nodes) cuts() []sets.Set {
 	return minimal(n.those(n.isCut))
 }
 
 // paths returns the minimal path sets, in order.
-func (n nodes) paths() []set {
+func (n nodes) paths() []sets.Set {
 	return minimal(n.those(n.isPath))
 }
 
@@ -23,7 +24,7 @@ func Cuts(t Tree) ([][]int, api.Errno) {
 	if e := CheckTree(t); e != api.OK {
 		return nil, e
 	}
-	return lists.Transform(t.nodes().cuts(), set.numbers), api.OK
+	return lists.Transform(t.nodes().cuts(), sets.Set.Numbers), api.OK
 }
 
 // Paths returns the minimal path sets of a tree.
@@ -31,7 +32,7 @@ func Paths(t Tree) ([][]int, api.Errno) {
 	if e := CheckTree(t); e != api.OK {
 		return nil, e
 	}
-	return lists.Transform(t.nodes().paths(), set.numbers), api.OK
+	return lists.Transform(t.nodes().paths(), sets.Set.Numbers), api.OK
 }
 
 // CheckCuts returns OK for cut sets and path sets that prove each other complete.
@@ -39,11 +40,11 @@ func CheckCuts(t Tree, cuts, paths [][]int) api.Errno {
 	if e := checks.First(CheckTree(t), t.checkSets(cuts), t.checkSets(paths)); e != api.OK {
 		return e
 	}
-	return checks.Unless(t.nodes().areComplete(lists.Transform(cuts, setOf), lists.Transform(paths, setOf)), api.ErrProof)
+	return checks.Unless(t.nodes().areComplete(lists.Transform(cuts, sets.Of), lists.Transform(paths, sets.Of)), api.ErrProof)
 }
 
 // areComplete reports whether sets are cut sets and path sets, of which each set of events contains a cut, or all other events a path.
-func (n nodes) areComplete(cuts, paths []set) bool {
+func (n nodes) areComplete(cuts, paths []sets.Set) bool {
 	for _, s := range cuts {
 		if !n.isCut(s) {
 			return false
@@ -56,7 +57,7 @@ func (n nodes) areComplete(cuts, paths []set) bool {
 	}
 	for s := range n.sets() {
 		others := n.all() &^ s
-		if !slices.ContainsFunc(cuts, s.contains) && !slices.ContainsFunc(paths, others.contains) {
+		if !slices.ContainsFunc(cuts, s.Contains) && !slices.ContainsFunc(paths, others.Contains) {
 			return false
 		}
 	}
@@ -71,7 +72,7 @@ func Single(t Tree) ([]int, api.Errno) {
 	n := t.nodes()
 	var out []int
 	for event := range t.size() {
-		if n.isCut(only(event)) {
+		if n.isCut(sets.Only(event)) {
 			out = append(out, event)
 		}
 	}

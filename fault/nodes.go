@@ -6,11 +6,12 @@ import (
 	"tideway/api"
 	"tideway/checks"
 	"tideway/lists"
+	"tideway/sets"
 )
 
 // events is the events of a tree without errors: for each one the basic events that fail if it occurs, and its chance.
 type events struct {
-	strikes []set
+	strikes []sets.Set
 	chances chances
 }
 
@@ -23,23 +24,23 @@ type nodes struct {
 
 // threshold is the inputs of a gate, and how many of them fail at least if it fails.
 type threshold struct {
-	inputs set
+	inputs sets.Set
 	least  int
 }
 
 func (t Tree) events() events {
 	var out events
 	for i, b := range t.Basics {
-		out.add(only(i), b.Chance)
+		out.add(sets.Only(i), b.Chance)
 	}
 	for _, c := range t.Causes {
-		out.add(setOf(c.Members), c.Chance)
+		out.add(sets.Of(c.Members), c.Chance)
 	}
 	return out
 }
 
 // add adds an event that makes basic events fail.
-func (l *events) add(basics set, chance int) {
+func (l *events) add(basics sets.Set, chance int) {
 	l.chances[len(l.strikes)] = chance
 	l.strikes = append(l.strikes, basics)
 }
@@ -47,30 +48,24 @@ func (l *events) add(basics set, chance int) {
 func (t Tree) nodes() nodes {
 	table := kinds()
 	gates := lists.Transform(t.Gates, func(g Gate) threshold {
-		return threshold{inputs: setOf(g.Inputs), least: table[g.Kind].least(g)}
+		return threshold{inputs: sets.Of(g.Inputs), least: table[g.Kind].least(g)}
 	})
 	return nodes{events: t.events(), basics: len(t.Basics), gates: gates}
 }
 
 // all returns the set of all events.
-func (l events) all() set {
-	return only(len(l.strikes)) - 1
+func (l events) all() sets.Set {
+	return sets.Below(len(l.strikes))
 }
 
 // sets visits the sets of events.
-func (l events) sets() iter.Seq[set] {
-	return func(yield func(set) bool) {
-		for s := range l.all() + 1 {
-			if !yield(s) {
-				return
-			}
-		}
-	}
+func (l events) sets() iter.Seq[sets.Set] {
+	return sets.All(len(l.strikes))
 }
 
 // those visits the sets of events that are as asked for.
-func (l events) those(are func(set) bool) iter.Seq[set] {
-	return func(yield func(set) bool) {
+func (l events) those(are func(sets.Set) bool) iter.Seq[sets.Set] {
+	return func(yield func(sets.Set) bool) {
 		for s := range l.sets() {
 			if are(s) && !yield(s) {
 				return
@@ -85,28 +80,28 @@ func (n nodes) count() int {
 }
 
 // failing returns the nodes that fail if the events of a set occur, and no others.
-func (n nodes) failing(occurring set) set {
-	var out set
+func (n nodes) failing(occurring sets.Set) sets.Set {
+	var out sets.Set
 	for event, basics := range n.strikes {
-		if occurring.has(event) {
+		if occurring.Has(event) {
 			out |= basics
 		}
 	}
 	for i, g := range n.gates {
-		if (out & g.inputs).size() >= g.least {
-			out |= only(n.basics + i)
+		if (out & g.inputs).Size() >= g.least {
+			out = out.With(n.basics + i)
 		}
 	}
 	return out
 }
 
 // isCut reports whether a set of events is a cut set.
-func (n nodes) isCut(s set) bool {
-	return n.failing(s).has(n.count() - 1)
+func (n nodes) isCut(s sets.Set) bool {
+	return n.failing(s).Has(n.count() - 1)
 }
 
 // isPath reports whether a set of events is a path set.
-func (n nodes) isPath(s set) bool {
+func (n nodes) isPath(s sets.Set) bool {
 	return !n.isCut(n.all() &^ s)
 }
 
@@ -115,7 +110,7 @@ func Fails(t Tree, events []int) (bool, api.Errno) {
 	if e := checks.First(CheckTree(t), t.checkSet(events)); e != api.OK {
 		return false, e
 	}
-	return t.nodes().isCut(setOf(events)), api.OK
+	return t.nodes().isCut(sets.Of(events)), api.OK
 }
 
 // States returns which nodes of a tree fail with some events.
@@ -124,10 +119,10 @@ func States(t Tree, events []int) ([]bool, api.Errno) {
 		return nil, e
 	}
 	n := t.nodes()
-	failing := n.failing(setOf(events))
+	failing := n.failing(sets.Of(events))
 	out := make([]bool, n.count())
 	for node := range out {
-		out[node] = failing.has(node)
+		out[node] = failing.Has(node)
 	}
 	return out, api.OK
 }

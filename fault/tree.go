@@ -83,7 +83,7 @@ func Tested(t Tree, event, chance int) (Tree, api.Errno) {
 
 // Without returns the tree without a common cause.
 func Without(t Tree, cause int) (Tree, api.Errno) {
-	if e := checks.First(CheckTree(t), checkNumber(cause, len(t.Causes))); e != api.OK {
+	if e := checks.First(CheckTree(t), checks.Index(cause, len(t.Causes))); e != api.OK {
 		return Tree{}, e
 	}
 	out := t.clone()

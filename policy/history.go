@@ -105,8 +105,7 @@ func Always(s Season, closed bool) (Policy, api.Errno) {
 
 // Flip returns a policy with one rule turned.
 func Flip(s Season, p Policy, rule int) (Policy, api.Errno) {
-	known := checks.Unless(0 <= rule && rule < len(p.Rules), api.ErrUnknown)
-	if e := checks.First(CheckPolicy(s, p), known); e != api.OK {
+	if e := checks.First(CheckPolicy(s, p), checks.Index(rule, len(p.Rules))); e != api.OK {
 		return Policy{}, e
 	}
 	out := p.clone()

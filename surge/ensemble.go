@@ -60,7 +60,7 @@ func Quantile(l []Course, index int, share api.Ratio) (int, api.Errno) {
 		return 0, e
 	}
 	if e := checks.First(
-		checks.Unless(0 <= index && index < len(l[0].Heights), api.ErrUnknown),
+		checks.Index(index, len(l[0].Heights)),
 		gauge.CheckRatio(share),
 		checks.Unless(0 <= share.Num && share.Num <= share.Den, api.ErrRange),
 	); e != api.OK {
