@@ -1,7 +1,11 @@
 // Package checks finds the first error in the order in which a chapter lists them.
 package checks
 
-import "tideway/api"
+import (
+	"cmp"
+
+	"tideway/api"
+)
 
 // First returns the first of errors that is not OK, or OK.
 func First(errors ...api.Errno) api.Errno {
@@ -51,6 +55,12 @@ func Index(number, n int) api.Errno {
 	return Unless(0 <= number && number < n, api.ErrUnknown)
 }
 
+// Known returns ErrUnknown if a map does not have a key.
+func Known[K comparable, V any](m map[K]V, key K) api.Errno {
+	_, found := m[key]
+	return Unless(found, api.ErrUnknown)
+}
+
 // Once returns a check of keys: its error is ErrTwice for a key that it has checked before.
 func Once[K comparable]() func(key K) api.Errno {
 	checked := map[K]bool{}
@@ -61,12 +71,13 @@ func Once[K comparable]() func(key K) api.Errno {
 	}
 }
 
-// Ascending returns a check of numbers: its error is ErrOrder for one that is not above the one that it has checked last.
-func Ascending() func(number int) api.Errno {
-	last, first := 0, true
-	return func(number int) api.Errno {
-		above := first || number > last
-		last, first = number, false
+// Ascending returns a check of numbers or strings: its error is ErrOrder for one that is not above the one that it has checked last.
+func Ascending[T cmp.Ordered]() func(x T) api.Errno {
+	var last T
+	first := true
+	return func(x T) api.Errno {
+		above := first || x > last
+		last, first = x, false
 		return Unless(above, api.ErrOrder)
 	}
 }

@@ -51,11 +51,21 @@ func TestIndex(t *testing.T) {
 }
 
 func TestAscending(t *testing.T) {
-	ascends, other := checks.Ascending(), checks.Ascending()
+	ascends, other := checks.Ascending[int](), checks.Ascending[string]()
 	for i, number := range []int{math.MinInt, math.MinInt, -1, 0, 0, 5, 4, 5, math.MaxInt} {
 		same(t, "Ascending", ascends(number), []api.Errno{api.OK, api.ErrOrder, api.OK, api.OK, api.ErrOrder, api.OK, api.ErrOrder, api.OK, api.OK}[i])
 	}
-	same(t, "another check", other(-7), api.OK)
+	for i, s := range []string{"", "", "B", "a", "aa", "a", "b"} {
+		same(t, "Ascending", other(s), []api.Errno{api.OK, api.ErrOrder, api.OK, api.OK, api.OK, api.ErrOrder, api.OK}[i])
+	}
+}
+
+func TestKnown(t *testing.T) {
+	m := map[string]int{"a": 0, "": 1}
+	for key, e := range map[string]api.Errno{"a": api.OK, "": api.OK, "b": api.ErrUnknown} {
+		same(t, "Known", checks.Known(m, key), e)
+	}
+	same(t, "Known of nothing", checks.Known(map[int]bool(nil), 0), api.ErrUnknown)
 }
 
 func TestOnce(t *testing.T) {

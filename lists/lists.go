@@ -1,4 +1,4 @@
-// Package lists makes lists of others.
+// Package lists makes lists of others, and finds their elements by keys.
 package lists
 
 // Transform returns the list of the results of f, element by element.
@@ -36,6 +36,26 @@ func Distinct[T comparable](l []T) []T {
 			known[x] = true
 			out = append(out, x)
 		}
+	}
+	return out
+}
+
+// Chosen returns the elements of a list that is chooses.
+func Chosen[T any](l []T, is func(T) bool) []T {
+	var out []T
+	for _, x := range l {
+		if is(x) {
+			out = append(out, x)
+		}
+	}
+	return out
+}
+
+// Indices returns the indices of the elements of a list by their keys, which are all different.
+func Indices[T any, K comparable](l []T, key func(T) K) map[K]int {
+	out := map[K]int{}
+	for i, x := range l {
+		out[key(x)] = i
 	}
 	return out
 }

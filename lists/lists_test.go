@@ -50,3 +50,29 @@ func TestDistinct(t *testing.T) {
 		}
 	}
 }
+
+func TestChosen(t *testing.T) {
+	odd := func(x int) bool { return x%2 == 1 }
+	for _, row := range []struct{ l, want []int }{
+		{nil, nil}, {[]int{2}, nil}, {[]int{3, 2, 1, 1, 4}, []int{3, 1, 1}},
+	} {
+		before := slices.Clone(row.l)
+		out := lists.Chosen(row.l, odd)
+		if !slices.Equal(out, row.want) {
+			t.Errorf("Chosen of %d: got %d", row.l, out)
+		}
+		_ = append(out, 9)
+		if !slices.Equal(row.l, before) {
+			t.Errorf("Chosen changes %d to %d", before, row.l)
+		}
+	}
+}
+
+func TestIndices(t *testing.T) {
+	if got := lists.Indices([]int{7, 0, 5}, strconv.Itoa); len(got) != 3 || got["7"] != 0 || got["0"] != 1 || got["5"] != 2 {
+		t.Errorf("got %v", got)
+	}
+	if got := lists.Indices(nil, strconv.Itoa); got == nil || len(got) != 0 {
+		t.Errorf("got %v", got)
+	}
+}

@@ -17,7 +17,7 @@ func Field(d Domain, l []Piece, run int, member string, tick int) ([][]float32, 
 	if e := checks.First(
 		CheckStore(d, l),
 		checkTime(run),
-		checkMember(d.roster(), member),
+		checks.Known(d.roster(), member),
 		checks.Range(tick, 0, d.Ticks-1),
 	); e != api.OK {
 		return nil, e

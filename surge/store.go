@@ -13,11 +13,7 @@ import (
 type roster map[string]int
 
 func (d Domain) roster() roster {
-	out := roster{}
-	for i, m := range d.Members {
-		out[m.Name] = i
-	}
-	return out
+	return lists.Indices(d.Members, func(m Member) string { return m.Name })
 }
 
 // entry is a piece with its key: the run, the number of the member, the tick, and the row.
@@ -47,17 +43,12 @@ func CheckPiece(d Domain, p Piece) api.Errno {
 func checkPiece(d Domain, r roster, p Piece) api.Errno {
 	return checks.First(
 		checkTime(p.Run),
-		checkMember(r, p.Member),
+		checks.Known(r, p.Member),
 		checks.Range(p.Tick, 0, d.Ticks-1),
 		checks.Range(p.Row, 0, d.Rows-1),
 		checks.Unless(len(p.Values) == d.Columns, api.ErrShape),
 		checks.Each(p.Values, gauge.CheckLevel),
 	)
-}
-
-func checkMember(r roster, name string) api.Errno {
-	_, found := r[name]
-	return checks.Unless(found, api.ErrUnknown)
 }
 
 // CheckStore returns the first error of a store, or OK.
